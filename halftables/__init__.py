@@ -1,0 +1,1 @@
+"""Searches from a corner in tables that are not in order."""

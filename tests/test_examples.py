@@ -1,0 +1,55 @@
+"""The examples of the interface, word for word, and those of README.md."""
+
+import unittest
+from doctest import DocTestParser, DocTestRunner
+from pathlib import Path
+
+SEARCH = """
+>>> from halftables.search import all_found, end, end_from_below, found_from_below, found_places, is_found
+>>> from halftables.search import missed_keys, path
+>>> table = [[1, 5, 4], [2, 3, 9]]
+>>> path(table, 3), end(table, 3), end(table, 7)
+([(0, 2), (0, 1), (0, 0), (1, 0)], (2, 0), (2, 1))
+>>> found_places(table), missed_keys(table), is_found(table, (1, 0)), all_found(table)
+([(0, 0), (0, 2), (1, 0), (1, 2)], [3, 5], True, False)
+>>> end_from_below(table, 3), end_from_below(table, 5), path(table, 1)
+((1, 1), (0, 3), [(0, 2), (0, 1), (0, 0)])
+>>> found_from_below(table)
+[(0, 0), (0, 2), (1, 0), (1, 1), (1, 2)]
+>>> found_places([[1, 2], [2, 3]]), missed_keys([[1, 2], [2, 3]]), all_found([[1, 2], [2, 3]])
+([(0, 0), (0, 1), (1, 1)], [], False)
+"""
+
+COUNTS = """
+>>> from halftables.counts import count_behaviours, count_ends, count_found, count_found_rising, count_found_twice
+>>> from halftables.counts import count_rising, found_in_all
+>>> count_found(2, 3, (0, 0)), count_found_twice(2, 3, (0, 0)), count_found_rising(2, 3, (1, 0)), count_rising(2, 3)
+(240, 180, 10, 5)
+>>> found_in_all(1, 2), found_in_all(2, 2), [count_ends(1, 2, end) for end in [(0, -1), (1, 0), (1, 1)]]
+(3, 56, [2, 1, 3])
+>>> [count_behaviours(2, 2, found) for found in range(6)]
+[0, 1, 4, 5, 2, 0]
+"""
+
+README = Path(__file__).resolve().parent.parent / "README.md"
+
+
+class ExamplesTest(unittest.TestCase):
+    def assert_holds(self, text, name):
+        told = []
+        examples = DocTestParser().get_doctest(text, {}, name, name, 0)
+        results = DocTestRunner(verbose=False).run(examples, out=told.append)
+        self.assertGreater(results.attempted, 0, name)
+        self.assertEqual(results.failed, 0, "".join(told))
+
+    def test_search(self):
+        self.assert_holds(SEARCH, "search")
+
+    def test_counts(self):
+        self.assert_holds(COUNTS, "counts")
+
+    def test_readme(self):
+        blocks = README.read_text(encoding="utf-8").split("```python\n")[1:]
+        self.assertGreater(len(blocks), 0)
+        for number, block in enumerate(blocks):
+            self.assert_holds(block.split("```")[0], f"README block {number}")

@@ -1,0 +1,157 @@
+"""Wrong inputs: each error with its field, and the order of the checks."""
+
+import unittest
+
+from halftables import counts, search
+from halftables.errors import InvalidKey, InvalidNumber, InvalidTable, UnknownPlace
+
+TABLE = [[1, 5, 4], [2, 3, 9]]
+WITH_KEY = (search.path, search.end, search.path_from_below, search.end_from_below)
+TABLE_ONLY = (search.found_places, search.found_from_below, search.missed_keys, search.all_found)
+WITH_PLACE = (counts.count_found, counts.count_found_twice, counts.count_found_rising)
+SIZE_ONLY = (counts.count_rising, counts.found_in_all)
+
+
+class Odd:
+    """A thing that cannot be shown."""
+
+    def __repr__(self):
+        raise RuntimeError("not to be shown")
+
+    __str__ = __repr__
+
+
+NO_WHOLE_NUMBERS = [True, False, None, 1.0, "1", "", b"1", [1], (1,), {1: 1}, {1}, 1j, int, Odd()]
+NO_TABLES = [
+    None, True, 0, 7, 1.5, "", "ab", b"ab", (), ([1], [2]), {}, {0: [1]}, {1}, Odd(), range(3), [],
+    [1], [1, 2], [None], ["ab"], [(1, 2)], [[1], (1,)], [[1, 2], [3, 4], None], [(1,), [True]], [[True], (1,)],
+    [[1]] * 9, [[]] * 9, [[True]] * 9, [[1], range(1)], [[1], Odd()],
+]
+WRONG_ROWS = [
+    (0, [[]]), (0, [[], []]), (0, [[], [1]]), (1, [[1], []]), (0, [[1] * 9]), (0, [[1] * 9] * 8), (1, [[1], [1] * 9]),
+    (0, [[1] * 9, [1]]), (1, [[1, 2], [3]]), (1, [[1, 2], [3, 4, 5]]), (2, [[1, 2], [3, 4], [5]]),
+    (7, [[1]] * 7 + [[1, 2]]),
+    (1, [[1, 2], [3], [True, 4]]), (1, [[1, 2], [3, True], [4]]), (0, [[1, True], [3]]), (0, [[True], [1, 2]]),
+    (2, [[1, 2], [3, 4], [5, None]]), (7, [[0] * 8] * 7 + [[0] * 7 + ["0"]]), (1, [[0] * 8, [0] * 7 + [False]]),
+] + [(0, [[thing]]) for thing in NO_WHOLE_NUMBERS] + [(1, [[1, 2], [3, thing], []]) for thing in NO_WHOLE_NUMBERS]
+
+
+def no_places(rows, columns):
+    """Things that are no place of a table of this size."""
+    beside = [(-1, 0), (0, -1), (rows, 0), (0, columns), (rows, columns), (-rows, -columns), (-1, -1), (10 ** 19, 0)]
+    others = [[0, 0], (), (0,), (0, 0, 0), ((0, 0),), None, 0, True, "00", b"00", {0: 0}, {0}, range(2), Odd()]
+    parts = [(thing, 0) for thing in NO_WHOLE_NUMBERS] + [(0, thing) for thing in NO_WHOLE_NUMBERS]
+    return beside + others + parts
+
+
+class WrongTest(unittest.TestCase):
+    def assert_raised(self, error, field, thing, function, *given):
+        with self.assertRaises(error) as caught:
+            function(*given)
+        self.assertIs(type(caught.exception), error)
+        self.assertIs(getattr(caught.exception, field), thing)
+
+
+class WrongTableTest(WrongTest):
+    def calls(self):
+        """Each function with its arguments after the table: right ones and wrong ones."""
+        for function in WITH_KEY:
+            yield from [(function, 1), (function, None)]
+        for function in TABLE_ONLY:
+            yield (function,)
+        yield from [(search.is_found, (0, 0)), (search.is_found, None)]
+
+    def test_no_tables(self):
+        for function, *more in self.calls():
+            for thing in NO_TABLES:
+                self.assert_raised(InvalidTable, "row", None, function, thing, *more)
+
+    def test_wrong_rows(self):
+        for function, *more in self.calls():
+            for row, table in WRONG_ROWS:
+                self.assert_raised(InvalidTable, "row", row, function, table, *more)
+
+    def test_longest_tables_are_taken(self):
+        for rows, columns in [(1, 1), (1, 8), (8, 1), (8, 8)]:
+            table = [[0] * columns for _ in range(rows)]
+            self.assertEqual(search.path(table, 0), [(0, columns - 1)])
+            self.assertEqual(search.found_places(table), [(0, columns - 1)])
+
+
+class WrongKeyTest(WrongTest):
+    def test_wrong_keys(self):
+        for function in WITH_KEY:
+            for thing in NO_WHOLE_NUMBERS:
+                self.assert_raised(InvalidKey, "key", thing, function, TABLE, thing)
+
+
+class WrongPlaceTest(WrongTest):
+    def test_places_of_a_table(self):
+        for table in (TABLE, [[7]], [[0] * 8 for _ in range(8)]):
+            for thing in no_places(len(table), len(table[0])):
+                self.assert_raised(UnknownPlace, "place", thing, search.is_found, table, thing)
+
+    def test_places_of_a_size(self):
+        for function in WITH_PLACE:
+            for rows, columns in [(1, 1), (2, 3), (3, 2), (8, 8)]:
+                for thing in no_places(rows, columns):
+                    self.assert_raised(UnknownPlace, "place", thing, function, rows, columns, thing)
+
+    def test_last_places_are_taken(self):
+        self.assertIs(search.is_found(TABLE, (1, 2)), True)
+        for function in WITH_PLACE:
+            self.assertGreater(function(2, 3, (1, 2)), 0)
+
+    def test_ends(self):
+        for rows, columns in [(1, 1), (2, 3), (3, 2), (8, 8)]:
+            inside = [(row, column) for row in range(rows) for column in range(columns)]
+            beside = [
+                (-1, 0), (-1, -1), (0, columns), (rows, -1), (rows, columns), (0, -2), (rows + 1, 0), (-1, columns - 1),
+                (rows - 1, columns), (rows + 1, -1), (-rows, -1), (rows, -columns - 1),
+            ]
+            others = [[0, -1], [rows, 0], (0, -1, 0), (rows,), None, -1, "0", {0: -1}, Odd()]
+            parts = [(thing, -1) for thing in NO_WHOLE_NUMBERS] + [(rows, thing) for thing in NO_WHOLE_NUMBERS]
+            for thing in inside + beside + others + parts:
+                self.assert_raised(UnknownPlace, "place", thing, counts.count_ends, rows, columns, thing)
+
+
+class WrongNumberTest(WrongTest):
+    NUMBERS = NO_WHOLE_NUMBERS + [0, -1, -8, 9, 64, 10 ** 19, -(10 ** 19)]
+
+    def calls(self):
+        """Each function with its third argument: a right one and wrong ones."""
+        for function in WITH_PLACE:
+            yield from [(function, (0, 0)), (function, (9, 9)), (function, None)]
+        for function in SIZE_ONLY:
+            yield (function,)
+        yield from [(counts.count_ends, (0, -1)), (counts.count_ends, (0, 0)), (counts.count_ends, None)]
+        yield from [(counts.count_behaviours, 1), (counts.count_behaviours, -1), (counts.count_behaviours, None)]
+
+    def test_wrong_rows(self):
+        for function, *more in self.calls():
+            for thing in self.NUMBERS:
+                self.assert_raised(InvalidNumber, "number", thing, function, thing, 1, *more)
+
+    def test_wrong_columns(self):
+        for function, *more in self.calls():
+            for thing in self.NUMBERS:
+                self.assert_raised(InvalidNumber, "number", thing, function, 1, thing, *more)
+
+    def test_rows_come_before_columns(self):
+        for function, *more in self.calls():
+            for thing in self.NUMBERS:
+                self.assert_raised(InvalidNumber, "number", thing, function, thing, "columns", *more)
+
+    def test_found(self):
+        for rows, columns in [(1, 1), (2, 3), (8, 8)]:
+            for thing in NO_WHOLE_NUMBERS + [-1, 65, 66, -64, 10 ** 19]:
+                self.assert_raised(InvalidNumber, "number", thing, counts.count_behaviours, rows, columns, thing)
+            for found in (0, 64):
+                self.assertIsInstance(counts.count_behaviours(rows, columns, found), int)
+
+    def test_greatest_sizes_are_taken(self):
+        for rows, columns in [(1, 1), (1, 8), (8, 1), (8, 8)]:
+            self.assertGreater(counts.count_rising(rows, columns), 0)
+            self.assertGreater(counts.found_in_all(rows, columns), 0)
+            self.assertGreater(counts.count_ends(rows, columns, (rows - 1, -1)), 0)
+            self.assertEqual(counts.count_behaviours(rows, columns, 1), 1)
