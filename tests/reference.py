@@ -1,6 +1,7 @@
 """Tables for the tests, and the steps of DOC.md written down a second time."""
 
-from itertools import permutations
+from fractions import Fraction
+from itertools import permutations, product
 
 BIG = 10 ** 20 - 1
 
@@ -41,6 +42,22 @@ def steps_from_below(table, key):
             return looked, (row, column)
 
 
+def levels_of(table):
+    """The levels by the words of [18]."""
+    last = len(table[0]) - 1
+    levels = [list(row) for row in table]
+    for row in range(len(table)):
+        for column in range(last, -1, -1):
+            value = table[row][column]
+            if row == 0 and column < last:
+                levels[row][column] = min(value, levels[row][column + 1])
+            elif row > 0 and column == last:
+                levels[row][column] = max(value, levels[row - 1][column])
+            elif row > 0:
+                levels[row][column] = sorted([value, levels[row - 1][column], levels[row][column + 1]])[1]
+    return levels
+
+
 def places_of(rows, columns):
     return [(row, column) for row in range(rows) for column in range(columns)]
 
@@ -66,6 +83,18 @@ def keys_around(table):
     return sorted(keys | {0, -BIG, BIG, values_of(table)[0] - 10 ** 6, values_of(table)[-1] + 10 ** 6})
 
 
+def keys_of_gaps(table):
+    """A key of each gap, from the least gap to the greatest; some are not whole."""
+    values = values_of(table)
+    between = [Fraction(low + high, 2) for low, high in zip(values, values[1:])]
+    return [values[0] - 1, *between, values[-1] + Fraction(1, 2)]
+
+
+def keys_of_all_kinds(table):
+    """The values of a table and a key of each of its gaps: all ways that keys can go."""
+    return sorted(values_of(table) + keys_of_gaps(table))
+
+
 def turn(table):
     return [[row[column] for row in table] for column in range(len(table[0]))]
 
@@ -79,6 +108,17 @@ def orders(rows, columns):
     """All tables of the numbers 0, 2, 4, ..: the odd keys lie in their gaps."""
     for order in permutations(range(0, 2 * rows * columns, 2)):
         yield shaped(order, columns)
+
+
+def small_tables():
+    """Tables of few places: with each value at each place, and with all orders of different values."""
+    for rows, columns in sizes(4) + [(1, 5), (5, 1)]:
+        for values in product((-1, 0, 1, 3), repeat=rows * columns):
+            yield shaped(values, columns)
+    for rows, columns in [(2, 3), (3, 2)]:
+        for values in product(range(3), repeat=6):
+            yield shaped(values, columns)
+        yield from orders(rows, columns)
 
 
 def sizes(most):

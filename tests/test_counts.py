@@ -10,7 +10,7 @@ from halftables.counts import (
     count_behaviours, count_ends, count_found, count_found_rising, count_found_twice, count_rising, found_in_all,
 )
 from halftables.search import found_from_below, found_places
-from reference import all_sizes, ends_outside, orders, places_of, shaped, sizes, steps, turn
+from reference import all_sizes, ends_outside, levels_of, orders, places_of, shaped, sizes, steps, turn
 
 
 def rises(values):
@@ -144,22 +144,6 @@ class FormulaTest(unittest.TestCase):
                 twice = count_found_twice(rows, columns, (row, column))
                 self.assertEqual(twice, count_found_twice(columns, rows, (column, row)))
                 self.assertLessEqual(twice, count_found(rows, columns, (row, column)))
-
-
-def levels_of(table):
-    """The levels by the words of [18]."""
-    last = len(table[0]) - 1
-    levels = [list(row) for row in table]
-    for row in range(len(table)):
-        for column in range(last, -1, -1):
-            value = table[row][column]
-            if row == 0 and column < last:
-                levels[row][column] = min(value, levels[row][column + 1])
-            elif row > 0 and column == last:
-                levels[row][column] = max(value, levels[row - 1][column])
-            elif row > 0:
-                levels[row][column] = sorted([value, levels[row - 1][column], levels[row][column + 1]])[1]
-    return levels
 
 
 def behaviours_gone_through(rows, columns):

@@ -31,6 +31,33 @@ COUNTS = """
 [0, 1, 4, 5, 2, 0]
 """
 
+BOUNDS = """
+>>> from halftables.bounds import bounds, ends_of_gaps, levels, seen_places
+>>> table = [[1, 5, 4], [2, 3, 9]]
+>>> levels(table), levels([[1, 2], [9, 3]])
+([[1, 4, 4], [2, 4, 9]], [[1, 2], [3, 3]])
+>>> bounds(table, (0, 2)), bounds(table, (1, 0)), bounds(table, (1, 1))
+((None, None), (1, 4), (4, 9))
+>>> ends_of_gaps(table)
+[(0, -1), (1, -1), (2, 0), (2, 0), (2, 1), (2, 1), (2, 2)]
+>>> bounds([[5, 0], [7, -3]], (1, 0)), seen_places([[5, 0], [7, -3]]), bounds([[3, 4], [9, 2]], (1, 0))
+(None, [(0, 0), (0, 1), (1, 1)], (3, 4))
+"""
+
+ALIKE = """
+>>> from halftables.alike import are_alike, parting_key
+>>> are_alike([[1, 2], [0, 3]], [[1, 2], [8, 3]]), parting_key([[1, 2]], [[0, 2]])
+(True, 0)
+>>> are_alike([[5, 1, 3]], [[7, 1, 3]]), are_alike([[0, 1, 3]], [[5, 1, 3]]), parting_key([[5]], [[5], [6]])
+(True, False, 7)
+"""
+
+CHANGES = """
+>>> from halftables.changes import fewest_changes
+>>> fewest_changes([[1, 5, 4], [2, 3, 9]], (1, 0)), fewest_changes([[6, 9], [7, 1], [5, 8]], (2, 0))
+(0, 1)
+"""
+
 README = Path(__file__).resolve().parent.parent / "README.md"
 
 
@@ -47,6 +74,15 @@ class ExamplesTest(unittest.TestCase):
 
     def test_counts(self):
         self.assert_holds(COUNTS, "counts")
+
+    def test_bounds(self):
+        self.assert_holds(BOUNDS, "bounds")
+
+    def test_alike(self):
+        self.assert_holds(ALIKE, "alike")
+
+    def test_changes(self):
+        self.assert_holds(CHANGES, "changes")
 
     def test_readme(self):
         blocks = README.read_text(encoding="utf-8").split("```python\n")[1:]

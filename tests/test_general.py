@@ -5,8 +5,8 @@ import unittest
 from copy import deepcopy
 from time import process_time
 
-from halftables import counts, search
-from reference import BIG, all_tables, drawn, keys_around, places_in, shaped
+from halftables import alike, bounds, changes, counts, search
+from reference import BIG, all_tables, drawn, keys_around, places_in, shaped, turn
 
 INTERFACE = {
     search: {
@@ -21,8 +21,25 @@ INTERFACE = {
         "found_in_all": ["rows", "columns"], "count_ends": ["rows", "columns", "end"],
         "count_behaviours": ["rows", "columns", "found"],
     },
+    bounds: {
+        "levels": ["table"], "bounds": ["table", "place"], "seen_places": ["table"], "ends_of_gaps": ["table"],
+    },
+    alike: {"are_alike": ["table", "other"], "parting_key": ["table", "other"]},
+    changes: {"fewest_changes": ["table", "place"], "changed": ["table", "place"]},
 }
-RIGHT = {"table": [[1, 5, 4], [2, 3, 9]], "key": 3, "place": (1, 0), "rows": 2, "columns": 3, "end": (2, 1), "found": 4}
+RIGHT = {
+    "table": [[1, 5, 4], [2, 3, 9]], "key": 3, "place": (1, 0), "rows": 2, "columns": 3, "end": (2, 1), "found": 4,
+    "other": [[1, 5, 4], [1, 3, 9]],
+}
+PLACE = (int, int)
+KINDS = {
+    "path": [PLACE], "end": PLACE, "path_from_below": [PLACE], "end_from_below": PLACE, "is_found": bool,
+    "found_places": [PLACE], "found_from_below": [PLACE], "missed_keys": [int], "all_found": bool,
+    "count_found": int, "count_found_twice": int, "count_found_rising": int, "count_rising": int, "found_in_all": int,
+    "count_ends": int, "count_behaviours": int,
+    "levels": [[int]], "bounds": (int, int), "seen_places": [PLACE], "ends_of_gaps": [PLACE],
+    "are_alike": bool, "parting_key": int, "fewest_changes": int, "changed": [[int]],
+}
 SECONDS = 5
 LONG = [
     shaped([number * number * number % (2 * BIG) - BIG for number in drawn(64, 5)], 8),
@@ -32,13 +49,32 @@ LONG = [
 ]
 
 
-def table_calls(table, key, place):
-    """What each function of search.py returns."""
-    return [
-        search.path(table, key), search.end(table, key), search.path_from_below(table, key),
-        search.end_from_below(table, key), search.is_found(table, place), search.found_places(table),
-        search.found_from_below(table), search.missed_keys(table), search.all_found(table),
-    ]
+def table_calls(table, key, place, other):
+    """What each function that takes a table returns, with its name."""
+    right = {"table": table, "key": key, "place": place, "other": other}
+    return {
+        name: getattr(module, name)(*[right[parameter] for parameter in parameters])
+        for module, functions in INTERFACE.items() for name, parameters in functions.items()
+        if parameters[0] == "table"
+    }
+
+
+def lists_in(thing):
+    """The list objects in a thing, each as often as it occurs."""
+    if not isinstance(thing, (list, tuple)):
+        return []
+    inner = [part for item in thing for part in lists_in(item)]
+    return [thing] + inner if isinstance(thing, list) else inner
+
+
+def is_kind(thing, kind):
+    """Whether a thing is of a kind, and what it contains as well."""
+    if isinstance(kind, list):
+        return type(thing) is list and all(is_kind(part, kind[0]) for part in thing)
+    if isinstance(kind, tuple):
+        same = type(thing) is tuple and len(thing) == len(kind)
+        return same and all(is_kind(part, inner) for part, inner in zip(thing, kind))
+    return type(thing) is kind
 
 
 class InterfaceTest(unittest.TestCase):
@@ -58,22 +94,30 @@ class InterfaceTest(unittest.TestCase):
                 self.assertEqual(function(**dict(reversed(given.items()))), function(*given.values()), name)
 
     def test_kinds_of_results(self):
-        told = table_calls(RIGHT["table"], 3, (1, 0))
-        looked, last, below, last_below, found, places, places_below, missed, whether = told
-        for places_told in (looked, below, places, places_below):
-            self.assertIs(type(places_told), list)
-            for place in places_told:
-                self.assertIs(type(place), tuple)
-                self.assertEqual([type(number) for number in place], [int, int])
-        self.assertEqual([type(last), type(last_below), type(missed)], [tuple, tuple, list])
-        self.assertEqual([type(found), type(whether)], [bool, bool])
-        for name, parameters in INTERFACE[counts].items():
-            self.assertIs(type(getattr(counts, name)(*[RIGHT[parameter] for parameter in parameters])), int, name)
+        for module, functions in INTERFACE.items():
+            for name, parameters in functions.items():
+                told = getattr(module, name)(*[RIGHT[parameter] for parameter in parameters])
+                self.assertTrue(is_kind(told, KINDS[name]), (name, told))
+
+    def test_kinds_for_all_tables(self):
+        for table in all_tables():
+            for name, told in table_calls(table, 3, (len(table) - 1, 0), turn(table)).items():
+                if name in ("bounds", "parting_key"):
+                    continue
+                self.assertTrue(is_kind(told, KINDS[name]), (name, told))
 
     def test_lists_of_places_ascend(self):
         for table in all_tables():
-            for places in (search.found_places(table), search.found_from_below(table), search.missed_keys(table)):
-                self.assertTrue(all(low < high for low, high in zip(places, places[1:])), table)
+            for ascending in (
+                search.found_places(table), search.found_from_below(table), search.missed_keys(table),
+                bounds.seen_places(table),
+            ):
+                self.assertTrue(all(low < high for low, high in zip(ascending, ascending[1:])), table)
+
+    def test_again_with_equal_arguments(self):
+        for table in all_tables():
+            told = table_calls(table, 3, (0, 0), turn(table))
+            self.assertEqual(table_calls(deepcopy(table), 3, (0, 0), turn(table)), told)
 
 
 class UnchangedTest(unittest.TestCase):
@@ -81,30 +125,47 @@ class UnchangedTest(unittest.TestCase):
         for table in all_tables():
             before = deepcopy(table)
             rows = list(table)
+            other = turn(table)
+            place = (len(table) - 1, 0)
             for key in keys_around(table)[::5]:
-                table_calls(table, key, places_in(table)[0])
-            self.assertEqual(table, before)
+                table_calls(table, key, place, other)
+                table_calls(other, key, (0, 0), table)
+            self.assertEqual((table, other), (before, turn(before)))
             self.assertTrue(all(row is kept for row, kept in zip(table, rows)))
 
     def test_one_list_as_several_rows(self):
         row = [4, 2, 7]
-        self.assertEqual(search.found_places([row, row]), search.found_places([[4, 2, 7], [4, 2, 7]]))
-        self.assertEqual(search.path_from_below([row, row], 5), search.path_from_below([[4, 2, 7], [4, 2, 7]], 5))
-        self.assertEqual(row, [4, 2, 7])
+        for place in [(0, 0), (1, 0), (2, 1)]:
+            told = table_calls([row, row, row], 5, place, [row, row])
+            same = table_calls([[4, 2, 7], [4, 2, 7], [4, 2, 7]], 5, place, [[4, 2, 7], [4, 2, 7]])
+            self.assertEqual(told, same)
+            self.assertEqual(row, [4, 2, 7])
+
+    def test_no_list_occurs_twice(self):
+        row = [4, 2, 7]
+        for table in [[[7, 6, 5], [2, 9, 8]], [row, row], [[1]], [[0] * 8] * 8, [[1, 2], [2, 3]]]:
+            for place in places_in(table):
+                for name, told in table_calls(table, 3, place, table).items():
+                    lists = lists_in(told)
+                    self.assertEqual(len({id(part) for part in lists}), len(lists), name)
+                    passed = {id(part) for part in lists_in(table)}
+                    self.assertFalse(any(id(part) in passed for part in lists), name)
 
     def test_returned_lists_are_new(self):
         table = [[7, 6, 5], [2, 9, 8]]
-        before = table_calls(deepcopy(table), 3, (0, 0))
-        for told in table_calls(table, 3, (0, 0)):
-            if isinstance(told, list):
-                told.append("changed")
-                told[0] = None
-        self.assertEqual(table, [[7, 6, 5], [2, 9, 8]])
-        self.assertEqual(table_calls(table, 3, (0, 0)), before)
+        other = [[3, 3]]
+        for place in places_in(table):
+            before = table_calls(deepcopy(table), 3, place, deepcopy(other))
+            for told in table_calls(table, 3, place, other).values():
+                for part in lists_in(told):
+                    part.append("changed")
+                    part[0] = None
+            self.assertEqual((table, other), ([[7, 6, 5], [2, 9, 8]], [[3, 3]]))
+            self.assertEqual(table_calls(table, 3, place, other), before)
 
     def test_later_changes_of_the_table_do_not_reach_results(self):
         table = [[1, 5, 4], [2, 3, 9]]
-        told = table_calls(table, 3, (0, 0))
+        told = table_calls(table, 3, (0, 0), table)
         before = deepcopy(told)
         table[0][0] = 77
         table.append([0, 0, 0])
@@ -112,9 +173,9 @@ class UnchangedTest(unittest.TestCase):
 
     def test_again_after_a_change_of_the_table(self):
         table = [[1, 5, 4], [2, 3, 9]]
-        self.assertEqual(search.end(table, 3), (2, 0))
+        self.assertEqual((search.end(table, 3), bounds.levels(table)), ((2, 0), [[1, 4, 4], [2, 4, 9]]))
         table[1][0] = 3
-        self.assertEqual(search.end(table, 3), (1, 0))
+        self.assertEqual((search.end(table, 3), bounds.levels(table)), ((1, 0), [[1, 4, 4], [3, 4, 9]]))
         self.assertEqual(search.missed_keys(table), [5])
 
 
@@ -135,6 +196,18 @@ class BoundsTest(unittest.TestCase):
                 self.assert_quick(getattr(search, name), table)
             for place in places_in(table):
                 self.assert_quick(search.is_found, table, place)
+
+    def test_long_tables_beyond_the_search(self):
+        for table in LONG:
+            for name in ("levels", "seen_places", "ends_of_gaps"):
+                self.assert_quick(getattr(bounds, name), table)
+            for place in places_in(table):
+                self.assert_quick(bounds.bounds, table, place)
+                self.assert_quick(changes.fewest_changes, table, place)
+                self.assert_quick(changes.changed, table, place)
+            for other in LONG:
+                self.assert_quick(alike.are_alike, table, other)
+                self.assert_quick(alike.parting_key, table, other)
 
     def test_long_counts(self):
         for place in places_in(LONG[0]):

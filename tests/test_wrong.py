@@ -2,12 +2,17 @@
 
 import unittest
 
-from halftables import counts, search
+from halftables import alike, bounds, changes, counts, search
 from halftables.errors import InvalidKey, InvalidNumber, InvalidTable, UnknownPlace
 
 TABLE = [[1, 5, 4], [2, 3, 9]]
 WITH_KEY = (search.path, search.end, search.path_from_below, search.end_from_below)
-TABLE_ONLY = (search.found_places, search.found_from_below, search.missed_keys, search.all_found)
+TABLE_ONLY = (
+    search.found_places, search.found_from_below, search.missed_keys, search.all_found,
+    bounds.levels, bounds.seen_places, bounds.ends_of_gaps,
+)
+TABLE_AND_PLACE = (search.is_found, bounds.bounds, changes.fewest_changes, changes.changed)
+TWO_TABLES = (alike.are_alike, alike.parting_key)
 WITH_PLACE = (counts.count_found, counts.count_found_twice, counts.count_found_rising)
 SIZE_ONLY = (counts.count_rising, counts.found_in_all)
 
@@ -59,7 +64,10 @@ class WrongTableTest(WrongTest):
             yield from [(function, 1), (function, None)]
         for function in TABLE_ONLY:
             yield (function,)
-        yield from [(search.is_found, (0, 0)), (search.is_found, None)]
+        for function in TABLE_AND_PLACE:
+            yield from [(function, (0, 0)), (function, (9, 9)), (function, None)]
+        for function in TWO_TABLES:
+            yield from [(function, TABLE), (function, [[1], [2, 3]]), (function, None)]
 
     def test_no_tables(self):
         for function, *more in self.calls():
@@ -76,6 +84,40 @@ class WrongTableTest(WrongTest):
             table = [[0] * columns for _ in range(rows)]
             self.assertEqual(search.path(table, 0), [(0, columns - 1)])
             self.assertEqual(search.found_places(table), [(0, columns - 1)])
+            self.assertEqual(bounds.levels(table), table)
+            self.assertEqual(bounds.ends_of_gaps(table), [(0, -1), (rows, columns - 1)])
+            self.assertEqual(len(bounds.seen_places(table)), rows + columns - 1)
+            self.assertIs(alike.are_alike(table, table), True)
+
+
+class WrongOtherTest(WrongTest):
+    """The second one of two tables, the first one right or wrong."""
+
+    def test_no_tables(self):
+        for function in TWO_TABLES:
+            for thing in NO_TABLES:
+                for table in (TABLE, [[7]], [[0] * 8] * 8):
+                    self.assert_raised(InvalidTable, "row", None, function, table, thing)
+
+    def test_wrong_rows(self):
+        for function in TWO_TABLES:
+            for row, other in WRONG_ROWS:
+                for table in (TABLE, [[7]], [[0] * 8] * 8):
+                    self.assert_raised(InvalidTable, "row", row, function, table, other)
+
+    def test_both_wrong(self):
+        for function in TWO_TABLES:
+            self.assert_raised(InvalidTable, "row", 1, function, [[1, 2], [3, True]], [[False]])
+            self.assert_raised(InvalidTable, "row", 0, function, [[False]], [[1, 2], [3, True]])
+            self.assert_raised(InvalidTable, "row", 2, function, [[1], [2], [3, 4]], None)
+            self.assert_raised(InvalidTable, "row", None, function, None, [[1], [2], [3, 4]])
+            self.assert_raised(InvalidTable, "row", None, function, [[1]] * 9, [[1], []])
+            self.assert_raised(InvalidTable, "row", 1, function, [[1], []], [[1]] * 9)
+
+    def test_another_size_is_taken(self):
+        for function in TWO_TABLES:
+            function(TABLE, [[7]])
+            function([[7]], [[0] * 8] * 8)
 
 
 class WrongKeyTest(WrongTest):
@@ -87,9 +129,10 @@ class WrongKeyTest(WrongTest):
 
 class WrongPlaceTest(WrongTest):
     def test_places_of_a_table(self):
-        for table in (TABLE, [[7]], [[0] * 8 for _ in range(8)]):
-            for thing in no_places(len(table), len(table[0])):
-                self.assert_raised(UnknownPlace, "place", thing, search.is_found, table, thing)
+        for function in TABLE_AND_PLACE:
+            for table in (TABLE, [[7]], [[0] * 8 for _ in range(8)]):
+                for thing in no_places(len(table), len(table[0])):
+                    self.assert_raised(UnknownPlace, "place", thing, function, table, thing)
 
     def test_places_of_a_size(self):
         for function in WITH_PLACE:
@@ -99,6 +142,10 @@ class WrongPlaceTest(WrongTest):
 
     def test_last_places_are_taken(self):
         self.assertIs(search.is_found(TABLE, (1, 2)), True)
+        for table in (TABLE, [[7]], [[0] * 8 for _ in range(8)]):
+            last = (len(table) - 1, len(table[0]) - 1)
+            for function in TABLE_AND_PLACE:
+                function(table, last)
         for function in WITH_PLACE:
             self.assertGreater(function(2, 3, (1, 2)), 0)
 
