@@ -111,14 +111,13 @@ def orders(rows, columns):
 
 
 def small_tables():
-    """Tables of few places: with each value at each place, and with all orders of different values."""
-    for rows, columns in sizes(4) + [(1, 5), (5, 1)]:
-        for values in product((-1, 0, 1, 3), repeat=rows * columns):
+    """All tables of a few numbers up to 6 places, and all orders of different values at 6 places."""
+    for rows, columns in sizes(6):
+        numbers = (-1, 0, 1, 3) if rows * columns < 6 else (0, 1, 2)
+        for values in product(numbers, repeat=rows * columns):
             yield shaped(values, columns)
-    for rows, columns in [(2, 3), (3, 2)]:
-        for values in product(range(3), repeat=6):
-            yield shaped(values, columns)
-        yield from orders(rows, columns)
+    yield from orders(2, 3)
+    yield from orders(3, 2)
 
 
 def sizes(most):
