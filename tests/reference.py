@@ -1,7 +1,7 @@
-"""Tables for the tests, and the steps of DOC.md written down a second time."""
+"""Tables and lists for the tests, and the steps of DOC.md written down a second time."""
 
 from fractions import Fraction
-from itertools import permutations, product
+from itertools import combinations, permutations, product
 
 BIG = 10 ** 20 - 1
 
@@ -40,6 +40,22 @@ def steps_from_below(table, key):
             row, column = row - 1, column
         else:
             return looked, (row, column)
+
+
+def sum_steps(values, total):
+    """The pairs at which the search for a sum looks, and the two places at which it ends, by the words of [17]."""
+    first, second = 0, len(values) - 1
+    looked = []
+    while True:
+        if first == second:
+            return looked, (first, second)
+        looked.append((first, second))
+        if values[first] + values[second] == total:
+            return looked, (first, second)
+        if values[first] + values[second] < total:
+            first, second = first + 1, second
+        else:
+            first, second = first, second - 1
 
 
 def levels_of(table):
@@ -118,6 +134,55 @@ def small_tables():
             yield shaped(values, columns)
     yield from orders(2, 3)
     yield from orders(3, 2)
+
+
+def pairs_in(values):
+    return list(combinations(range(len(values)), 2))
+
+
+def sums_of(values):
+    """The different sums of the pairs of a list, ascending."""
+    return sorted({values[first] + values[second] for first, second in pairs_in(values)})
+
+
+def totals_around(values):
+    """The sums of a list and whole numbers near them."""
+    totals = {0, -2 * BIG, 2 * BIG}
+    for both in sums_of(values):
+        totals.update(range(both - 2, both + 3))
+    return sorted(totals)
+
+
+def small_lists():
+    """All lists of a few numbers with up to 5 values, and all orders of some different values."""
+    for length in (2, 3, 4, 5):
+        for values in product((-1, 0, 1, 3) if length < 5 else (0, 1, 2), repeat=length):
+            yield list(values)
+    for some in ((0, 1, 2, 3, 4), (1, 2, 4, 8, 16), (-7, -2, 0, 3), (0, 1, 5, 6, 7, 9)):
+        for values in permutations(some):
+            yield list(values)
+
+
+def long_lists():
+    """Lists of up to 30 values in several orders, with equal values and without."""
+    for length in (2, 3, 5, 8, 13, 29, 30):
+        yield list(range(length))
+        yield list(range(length, 0, -1))
+        yield [0] * length
+        yield [2 ** number for number in range(length)]
+        yield [-(2 ** number) for number in range(length)]
+        yield [number // 3 for number in range(length)]
+        for seed in range(4):
+            yield [number % (3 + 9 * seed) - 2 for number in drawn(length, seed)]
+            yield sorted(number % (6 + 40 * seed) for number in drawn(length, seed))
+        yield shuffled([2 ** number for number in range(length)], 1)
+        yield shuffled([BIG - 7 * number for number in range(length)], 2)
+        yield shuffled([5 * number - BIG for number in range(length)], 3)
+        yield shuffled([(-1) ** number * (BIG - number) for number in range(length)], 4)
+
+
+def all_lists():
+    return [*small_lists(), *long_lists()]
 
 
 def sizes(most):

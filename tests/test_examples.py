@@ -4,6 +4,9 @@ import unittest
 from doctest import DocTestParser, DocTestRunner
 from pathlib import Path
 
+from halftables.errors import InvalidText
+from halftables.text import parse_table
+
 SEARCH = """
 >>> from halftables.search import all_found, end, end_from_below, found_from_below, found_places, is_found
 >>> from halftables.search import missed_keys, path
@@ -58,6 +61,29 @@ CHANGES = """
 (0, 1)
 """
 
+SUMS = """
+>>> from halftables.sums import all_pairs_found, found_pairs, pair_end, pair_path
+>>> pair_path([4, 1, 3], 4), pair_end([4, 1, 3], 4)
+([(0, 2), (0, 1)], (0, 0))
+>>> found_pairs([4, 1, 3]), all_pairs_found([1, 2, 4]), all_pairs_found([1, 2, 3, 4]), all_pairs_found([5, 1])
+([(0, 1), (0, 2)], True, False, True)
+"""
+
+KINDS = """
+>>> from halftables.kinds import Seeker
+>>> seeker = Seeker([[1, 5, 4], [2, 3, 9]], 3)
+>>> seeker.step(), seeker.step(), seeker.step(), seeker.step(), seeker.looked, seeker.ended
+((0, 1), (0, 0), (1, 0), (2, 0), [(0, 2), (0, 1), (0, 0), (1, 0)], True)
+>>> seeker.change((1, 0), 3), seeker.found, seeker.undo(), seeker.undo(), seeker.spot, seeker.rows
+(2, False, None, None, (1, 0), [[1, 5, 4], [2, 3, 9]])
+"""
+
+TEXT = r"""
+>>> from halftables.text import format_table, parse_table
+>>> format_table([[1, -5], [0, 7]]), parse_table('3 4')
+('1 -5\n0 7', [[3, 4]])
+"""
+
 README = Path(__file__).resolve().parent.parent / "README.md"
 
 
@@ -83,6 +109,21 @@ class ExamplesTest(unittest.TestCase):
 
     def test_changes(self):
         self.assert_holds(CHANGES, "changes")
+
+    def test_sums(self):
+        self.assert_holds(SUMS, "sums")
+
+    def test_kinds(self):
+        self.assert_holds(KINDS, "kinds")
+
+    def test_text(self):
+        self.assert_holds(TEXT, "text")
+
+    def test_refused_texts(self):
+        for wrong, line in [("1\n", 1), ("", 0)]:
+            with self.assertRaises(InvalidText) as caught:
+                parse_table(wrong)
+            self.assertEqual(caught.exception.line, line)
 
     def test_readme(self):
         blocks = README.read_text(encoding="utf-8").split("```python\n")[1:]

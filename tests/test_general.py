@@ -5,8 +5,8 @@ import unittest
 from copy import deepcopy
 from time import process_time
 
-from halftables import alike, bounds, changes, counts, search
-from reference import BIG, all_tables, drawn, keys_around, places_in, shaped, turn
+from halftables import alike, bounds, changes, counts, kinds, search, sums, text
+from reference import BIG, all_lists, all_tables, drawn, keys_around, pairs_in, places_in, shaped, turn
 
 INTERFACE = {
     search: {
@@ -26,10 +26,17 @@ INTERFACE = {
     },
     alike: {"are_alike": ["table", "other"], "parting_key": ["table", "other"]},
     changes: {"fewest_changes": ["table", "place"], "changed": ["table", "place"]},
+    sums: {
+        "pair_path": ["values", "total"], "pair_end": ["values", "total"], "found_pairs": ["values"],
+        "all_pairs_found": ["values"],
+    },
+    text: {"format_table": ["table"], "parse_table": ["text"]},
 }
+METHODS = {"__init__": ["table", "key"], "step": [], "change": ["place", "value"], "undo": []}
+PROPERTIES = ["rows", "spot", "looked", "ended", "found"]
 RIGHT = {
     "table": [[1, 5, 4], [2, 3, 9]], "key": 3, "place": (1, 0), "rows": 2, "columns": 3, "end": (2, 1), "found": 4,
-    "other": [[1, 5, 4], [1, 3, 9]],
+    "other": [[1, 5, 4], [1, 3, 9]], "values": [4, 1, 3], "total": 4, "text": "3 -4\n0 10", "value": 7,
 }
 PLACE = (int, int)
 KINDS = {
@@ -39,6 +46,9 @@ KINDS = {
     "count_ends": int, "count_behaviours": int,
     "levels": [[int]], "bounds": (int, int), "seen_places": [PLACE], "ends_of_gaps": [PLACE],
     "are_alike": bool, "parting_key": int, "fewest_changes": int, "changed": [[int]],
+    "pair_path": [PLACE], "pair_end": PLACE, "found_pairs": [PLACE], "all_pairs_found": bool,
+    "format_table": str, "parse_table": [[int]],
+    "rows": [[int]], "spot": PLACE, "looked": [PLACE], "ended": bool, "found": bool,
 }
 SECONDS = 5
 LONG = [
@@ -46,6 +56,12 @@ LONG = [
     shaped([BIG - place for place in range(64)], 8),
     shaped([place - BIG for place in range(64)], 8),
     [[BIG] * 8 for _ in range(8)],
+]
+LONG_LISTS = [
+    [number * number * number % (2 * BIG) - BIG for number in drawn(30, 5)],
+    [BIG - number for number in range(30)],
+    [number - BIG for number in range(30)],
+    [BIG] * 30,
 ]
 
 
@@ -56,6 +72,15 @@ def table_calls(table, key, place, other):
         name: getattr(module, name)(*[right[parameter] for parameter in parameters])
         for module, functions in INTERFACE.items() for name, parameters in functions.items()
         if parameters[0] == "table"
+    }
+
+
+def list_calls(values, total):
+    """What each function that takes a list of values returns, with its name."""
+    right = {"values": values, "total": total}
+    return {
+        name: getattr(sums, name)(*[right[parameter] for parameter in parameters])
+        for name, parameters in INTERFACE[sums].items()
     }
 
 
@@ -105,6 +130,48 @@ class InterfaceTest(unittest.TestCase):
                 if name in ("bounds", "parting_key"):
                     continue
                 self.assertTrue(is_kind(told, KINDS[name]), (name, told))
+
+    def test_kinds_for_all_lists(self):
+        for values in all_lists():
+            for total in (0, values[0] + values[-1], -BIG):
+                for name, told in list_calls(values, total).items():
+                    self.assertTrue(is_kind(told, KINDS[name]), (name, told))
+
+    def test_seeker(self):
+        self.assertEqual(kinds.Seeker.__module__, "halftables.kinds")
+        for name, parameters in METHODS.items():
+            method = vars(kinds.Seeker)[name]
+            self.assertEqual(list(inspect.signature(method).parameters)[1:], parameters, name)
+        for name in PROPERTIES:
+            self.assertIsInstance(vars(kinds.Seeker)[name], property)
+
+    def test_seeker_by_name(self):
+        for key in (2, 3):
+            seeker = kinds.Seeker(key=key, table=RIGHT["table"])
+            self.assertEqual(seeker.change(value=7, place=(1, 1)), 3)
+            self.assertEqual(seeker.rows, [[1, 5, 4], [2, 7, 9]])
+
+    def test_kinds_of_what_a_seeker_tells(self):
+        for key in (2, 3, -8, 10):
+            seeker = kinds.Seeker(RIGHT["table"], key)
+            for _ in range(5):
+                for name in PROPERTIES:
+                    self.assertTrue(is_kind(getattr(seeker, name), KINDS[name]), name)
+                self.assertIs(type(seeker.change((0, 0), 1)), int)
+                if not seeker.ended:
+                    self.assertTrue(is_kind(seeker.step(), PLACE))
+            self.assertIs(seeker.ended, True)
+            self.assertIsNone(seeker.undo())
+
+    def test_pairs_ascend(self):
+        for values in all_lists():
+            told = sums.found_pairs(values)
+            self.assertTrue(all(low < high for low, high in zip(told, told[1:])), values)
+            self.assertTrue(set(told) <= set(pairs_in(values)), values)
+
+    def test_lists_again_with_equal_arguments(self):
+        for values in all_lists():
+            self.assertEqual(list_calls(list(values), 3), list_calls(values, 3))
 
     def test_lists_of_places_ascend(self):
         for table in all_tables():
@@ -179,6 +246,44 @@ class UnchangedTest(unittest.TestCase):
         self.assertEqual(search.missed_keys(table), [5])
 
 
+class UnchangedListsTest(unittest.TestCase):
+    def test_lists_stay_as_they_are(self):
+        for values in all_lists():
+            before = list(values)
+            for total in (0, values[0] + values[-1], values[0] + values[1], BIG):
+                list_calls(values, total)
+            self.assertEqual(values, before)
+
+    def test_returned_lists_are_new(self):
+        values = [4, 1, 3]
+        before = list_calls([4, 1, 3], 4)
+        for told in list_calls(values, 4).values():
+            for part in lists_in(told):
+                self.assertIsNot(part, values)
+                part.append("changed")
+                part[0] = None
+        self.assertEqual(values, [4, 1, 3])
+        self.assertEqual(list_calls(values, 4), before)
+
+    def test_later_changes_of_the_list_do_not_reach_results(self):
+        values = [4, 1, 3]
+        told = list_calls(values, 4)
+        before = deepcopy(told)
+        values[0] = 3
+        values.append(0)
+        self.assertEqual(told, before)
+        self.assertEqual((sums.pair_path(values, 4), sums.found_pairs([3, 1, 3])), (
+            [(0, 3), (1, 3), (2, 3)], [(0, 1), (0, 2)],
+        ))
+
+    def test_returned_tables_are_new(self):
+        told = text.parse_table("4 2\n4 2\n4 2")
+        self.assertEqual(len({id(part) for part in lists_in(told)}), 4)
+        told[0][0] = None
+        told.pop()
+        self.assertEqual(text.parse_table("4 2\n4 2\n4 2"), [[4, 2], [4, 2], [4, 2]])
+
+
 class BoundsTest(unittest.TestCase):
     """Point [3]."""
 
@@ -220,3 +325,29 @@ class BoundsTest(unittest.TestCase):
             self.assert_quick(counts.count_ends, 8, 8, (8, number))
         for found in range(65):
             self.assert_quick(counts.count_behaviours, 8, 8, found)
+
+    def test_long_lists(self):
+        for values in LONG_LISTS:
+            for first, second in pairs_in(values):
+                self.assert_quick(sums.pair_path, values, values[first] + values[second])
+                self.assert_quick(sums.pair_end, values, values[first] + values[second] + 1)
+            self.assert_quick(sums.found_pairs, values)
+            self.assert_quick(sums.all_pairs_found, values)
+
+    def test_long_texts(self):
+        for table in LONG:
+            self.assert_quick(text.format_table, table)
+            self.assert_quick(text.parse_table, text.format_table(table))
+        for wrong in ("1 " * 1000, "\n" * 2000, " " * 2000, "-" * 2000, "0" * 2000, "~" * 2000, "7" * 19 + "\n1" * 900):
+            self.assert_quick(self.assertRaises, ValueError, text.parse_table, wrong)
+
+    def test_long_seekers(self):
+        for table in LONG:
+            for key in (-BIG, BIG, 0, table[3][3]):
+                seeker = kinds.Seeker(table, key)
+                while not seeker.ended:
+                    self.assert_quick(seeker.step)
+                for place in places_in(table):
+                    self.assert_quick(seeker.change, place, key)
+                for _ in places_in(table) + seeker.looked:
+                    self.assert_quick(seeker.undo)

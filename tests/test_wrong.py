@@ -1,60 +1,24 @@
 """Wrong inputs: each error with its field, and the order of the checks."""
 
-import unittest
-
-from halftables import alike, bounds, changes, counts, search
-from halftables.errors import InvalidKey, InvalidNumber, InvalidTable, UnknownPlace
+from halftables import alike, bounds, changes, counts, kinds, search, sums, text
+from halftables.errors import InvalidKey, InvalidNumber, InvalidTable, InvalidText, InvalidValues, UnknownPlace
+from wrong import (
+    NO_LISTS_OF_VALUES, NO_TABLES, NO_TEXTS, NO_WHOLE_NUMBERS, WRONG_ROWS, WRONG_TEXTS, WRONG_VALUES, Odd, WrongTest,
+    no_places,
+)
 
 TABLE = [[1, 5, 4], [2, 3, 9]]
-WITH_KEY = (search.path, search.end, search.path_from_below, search.end_from_below)
+WITH_KEY = (search.path, search.end, search.path_from_below, search.end_from_below, kinds.Seeker)
 TABLE_ONLY = (
     search.found_places, search.found_from_below, search.missed_keys, search.all_found,
-    bounds.levels, bounds.seen_places, bounds.ends_of_gaps,
+    bounds.levels, bounds.seen_places, bounds.ends_of_gaps, text.format_table,
 )
 TABLE_AND_PLACE = (search.is_found, bounds.bounds, changes.fewest_changes, changes.changed)
 TWO_TABLES = (alike.are_alike, alike.parting_key)
 WITH_PLACE = (counts.count_found, counts.count_found_twice, counts.count_found_rising)
 SIZE_ONLY = (counts.count_rising, counts.found_in_all)
-
-
-class Odd:
-    """A thing that cannot be shown."""
-
-    def __repr__(self):
-        raise RuntimeError("not to be shown")
-
-    __str__ = __repr__
-
-
-NO_WHOLE_NUMBERS = [True, False, None, 1.0, "1", "", b"1", [1], (1,), {1: 1}, {1}, 1j, int, Odd()]
-NO_TABLES = [
-    None, True, 0, 7, 1.5, "", "ab", b"ab", (), ([1], [2]), {}, {0: [1]}, {1}, Odd(), range(3), [],
-    [1], [1, 2], [None], ["ab"], [(1, 2)], [[1], (1,)], [[1, 2], [3, 4], None], [(1,), [True]], [[True], (1,)],
-    [[1]] * 9, [[]] * 9, [[True]] * 9, [[1], range(1)], [[1], Odd()],
-]
-WRONG_ROWS = [
-    (0, [[]]), (0, [[], []]), (0, [[], [1]]), (1, [[1], []]), (0, [[1] * 9]), (0, [[1] * 9] * 8), (1, [[1], [1] * 9]),
-    (0, [[1] * 9, [1]]), (1, [[1, 2], [3]]), (1, [[1, 2], [3, 4, 5]]), (2, [[1, 2], [3, 4], [5]]),
-    (7, [[1]] * 7 + [[1, 2]]),
-    (1, [[1, 2], [3], [True, 4]]), (1, [[1, 2], [3, True], [4]]), (0, [[1, True], [3]]), (0, [[True], [1, 2]]),
-    (2, [[1, 2], [3, 4], [5, None]]), (7, [[0] * 8] * 7 + [[0] * 7 + ["0"]]), (1, [[0] * 8, [0] * 7 + [False]]),
-] + [(0, [[thing]]) for thing in NO_WHOLE_NUMBERS] + [(1, [[1, 2], [3, thing], []]) for thing in NO_WHOLE_NUMBERS]
-
-
-def no_places(rows, columns):
-    """Things that are no place of a table of this size."""
-    beside = [(-1, 0), (0, -1), (rows, 0), (0, columns), (rows, columns), (-rows, -columns), (-1, -1), (10 ** 19, 0)]
-    others = [[0, 0], (), (0,), (0, 0, 0), ((0, 0),), None, 0, True, "00", b"00", {0: 0}, {0}, range(2), Odd()]
-    parts = [(thing, 0) for thing in NO_WHOLE_NUMBERS] + [(0, thing) for thing in NO_WHOLE_NUMBERS]
-    return beside + others + parts
-
-
-class WrongTest(unittest.TestCase):
-    def assert_raised(self, error, field, thing, function, *given):
-        with self.assertRaises(error) as caught:
-            function(*given)
-        self.assertIs(type(caught.exception), error)
-        self.assertIs(getattr(caught.exception, field), thing)
+WITH_TOTAL = (sums.pair_path, sums.pair_end)
+VALUES_ONLY = (sums.found_pairs, sums.all_pairs_found)
 
 
 class WrongTableTest(WrongTest):
@@ -202,3 +166,50 @@ class WrongNumberTest(WrongTest):
             self.assertGreater(counts.found_in_all(rows, columns), 0)
             self.assertGreater(counts.count_ends(rows, columns, (rows - 1, -1)), 0)
             self.assertEqual(counts.count_behaviours(rows, columns, 1), 1)
+
+
+class WrongValuesTest(WrongTest):
+    def calls(self):
+        """Each function with its argument after the values: right ones and wrong ones."""
+        for function in WITH_TOTAL:
+            yield from [(function, 1), (function, None), (function, True)]
+        for function in VALUES_ONLY:
+            yield (function,)
+
+    def test_no_lists_of_values(self):
+        for function, *more in self.calls():
+            for thing in NO_LISTS_OF_VALUES:
+                self.assert_raised(InvalidValues, "index", None, function, thing, *more)
+
+    def test_wrong_values(self):
+        for function, *more in self.calls():
+            for index, values in WRONG_VALUES:
+                self.assert_raised(InvalidValues, "index", index, function, values, *more)
+
+    def test_wrong_totals(self):
+        for function in WITH_TOTAL:
+            for values in ([1, 2], [5, 1, 3], [0] * 30):
+                for thing in NO_WHOLE_NUMBERS:
+                    self.assert_raised(InvalidKey, "key", thing, function, values, thing)
+
+    def test_shortest_and_longest_lists_are_taken(self):
+        for values in ([0, 0], [0] * 30):
+            self.assertEqual(sums.pair_path(values, 0), [(0, len(values) - 1)])
+            self.assertEqual(sums.pair_end(values, 1), (len(values) - 1, len(values) - 1))
+            self.assertEqual(sums.found_pairs(values), [(0, len(values) - 1)])
+            self.assertIs(sums.all_pairs_found(values), len(values) == 2)
+
+
+class WrongTextTest(WrongTest):
+    def test_no_texts(self):
+        for thing in NO_TEXTS:
+            self.assert_raised(InvalidText, "line", None, text.parse_table, thing)
+
+    def test_wrong_texts(self):
+        for line, wrong in WRONG_TEXTS:
+            self.assert_raised(InvalidText, "line", line, text.parse_table, wrong)
+
+    def test_shortest_and_longest_texts_are_taken(self):
+        for rows, columns in [(1, 1), (1, 8), (8, 1), (8, 8)]:
+            table = [[0] * columns for _ in range(rows)]
+            self.assertEqual(text.parse_table(text.format_table(table)), table)
